@@ -56,7 +56,8 @@ class IsProbeOrderTest(unittest.TestCase):
                 wrong += [(), (slot,), [], [slot], {}, {slot: slot}]
                 wrong += [order[at - 1]] if count > 1 else []
                 for item in wrong:
-                    self.check(count, replaced(order, at, item), False)
+                    for asked in (count - 1, count, count + 1):
+                        self.check(asked, replaced(order, at, item), False)
 
     def test_bools_that_equal_the_slots(self):
         self.check(1, (False,), False)
@@ -110,7 +111,7 @@ class MadeOrdersTest(unittest.TestCase):
 
     def check_step(self, count, home, step):
         if math.gcd(step, count) == 1:
-            self.assertTrue(is_probe_order(count, stepped(count, home, step)))
+            self.check(count, stepped(count, home, step), lambda at: home + at * step)
             return
         with self.assertRaises(BadStep) as caught:
             stepped(count, home, step)
