@@ -1,6 +1,6 @@
 """Rules: which of two keys stays in a slot."""
 
-from samelayout.kinds import is_integer_within
+from samelayout.kinds import are_integers_within
 from samelayout.probes import is_probe_order
 
 MOST = 16
@@ -38,7 +38,7 @@ def is_table(keys, value):
 
 def is_ascending(keys, value):
     """Whether any value is an ascending tuple of keys."""
-    if not isinstance(value, tuple) or not all([is_integer_within(key, 0, keys - 1) for key in value]):
+    if not are_integers_within(value, 0, keys - 1):
         return False
     return all([key < after for key, after in zip(value, value[1:])])
 

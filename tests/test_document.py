@@ -23,6 +23,49 @@ FARTHER = """
 (((2,), (0, 2), ()), ((1, 2), (), (1,)))
 """
 
+INSERTING = """
+>>> from samelayout.rules import rule_of_orders
+>>> from samelayout.inserting import insert, layout_of
+>>> probes = ((0, 1, 2), (0, 1, 2), (1, 0, 2))
+>>> rule = rule_of_orders(((0, 2, 1), (1, 2, 0), (0, 1, 2)))
+>>> [layout_of(probes, rule, (0, 1, 2)), insert(probes, rule, (1, 2, -1), 0)]
+[(0, 1, 2), ((0, 1, 2), ((0, 0), (1, 1), (2, 2)))]
+"""
+
+JUDGING = """
+>>> from samelayout.judging import judge, shows_judgement, shows_unlike, unlike
+>>> from samelayout.rules import rule_of_orders
+>>> ringed = (((1,), (2,), (0,)),) * 3
+>>> equal = ((0, 1, 2),) * 3
+>>> [judge(rule_of_orders(((1, 0),))), shows_judgement(ringed, ('ring', 0, (0, 1, 2))), shows_unlike(equal, ringed, ((0, 1, 2), (1, 2, 0))), unlike(((0, 1),) * 3, ringed[:2])]
+[('orders', ((1, 0),)), True, True, None]
+"""
+
+LAYOUTS = """
+>>> from samelayout.judging import all_layouts
+>>> from samelayout.rules import rule_of_orders
+>>> all_layouts(((0, 1), (0, 1)), rule_of_orders(((1, 0), (0, 1))))
+(((), (-1, -1)), ((0,), (0, -1)), ((0, 1), (1, 0)), ((1,), (1, -1)))
+"""
+
+STABLE = """
+>>> from samelayout.rules import rule_of_orders
+>>> from samelayout.stable import best, stable_layouts, worst
+>>> probes = ((0, 1, 2), (0, 1, 2), (1, 0, 2))
+>>> rule = rule_of_orders(((0, 2, 1), (1, 2, 0), (0, 1, 2)))
+>>> [best(probes, rule, (1, 2)), worst(probes, rule, (1, 2)), stable_layouts(probes, rule, (0, 1, 2))]
+[(1, 2, -1), (2, 1, -1), ((0, 1, 2),)]
+"""
+
+RINGS = """
+>>> from samelayout.rules import rule_of_orders
+>>> from samelayout.rings import exchange, next_key, rings, rings_to_best
+>>> probes = ((0, 1, 2), (0, 1, 2), (1, 0, 2))
+>>> rule = rule_of_orders(((0, 2, 1), (1, 2, 0), (0, 1, 2)))
+>>> [next_key(probes, rule, (2, 1, -1), 0), rings(probes, rule, (2, 1, -1)), exchange(probes, rule, (2, 1, -1), (0, 1)), rings_to_best(probes, rule, (2, 1, -1))]
+[1, ((0, 1),), (1, 2, -1), (((0, 2, 1), (1, 1, 2)),)]
+"""
+
 
 class DocumentTest(unittest.TestCase):
 
@@ -41,6 +84,21 @@ class DocumentTest(unittest.TestCase):
 
     def test_farther_rule(self):
         self.check(FARTHER)
+
+    def test_inserting(self):
+        self.check(INSERTING)
+
+    def test_judging(self):
+        self.check(JUDGING)
+
+    def test_all_layouts(self):
+        self.check(LAYOUTS)
+
+    def test_stable_layouts(self):
+        self.check(STABLE)
+
+    def test_rings(self):
+        self.check(RINGS)
 
     def test_readme(self):
         readme = pathlib.Path(__file__).resolve().parent.parent / "README.md"

@@ -76,3 +76,30 @@ class LanguageTest(unittest.TestCase):
             if isinstance(node, ast.Constant):
                 self.assertIn(type(node.value), (int, str, bytes, bool, type(None)), path)
                 self.assertFalse(isinstance(node.value, str) and "%" in node.value, path)
+
+    def test_no_name_hides_an_import_or_a_class(self):
+        for path, source in sources().items():
+            tree = ast.parse(source)
+            taken = {node.name for node in tree.body if isinstance(node, (ast.ClassDef, ast.FunctionDef))}
+            for node in tree.body:
+                if isinstance(node, ast.ImportFrom):
+                    taken |= {alias.asname or alias.name for alias in node.names}
+            for node in ast.walk(tree):
+                if isinstance(node, ast.arg):
+                    self.assertNotIn(node.arg, taken, path)
+                if isinstance(node, ast.Name) and isinstance(node.ctx, ast.Store):
+                    self.assertNotIn(node.id, taken, path)
+
+    def test_imports_are_used_and_go_one_way(self):
+        seen = {}
+        for path, source in sources().items():
+            tree = ast.parse(source)
+            used = {node.id for node in ast.walk(tree) if isinstance(node, ast.Name)}
+            imports = [node for node in tree.body if isinstance(node, ast.ImportFrom)]
+            for node in imports:
+                self.assertTrue({alias.name for alias in node.names} <= used, (path, node.module))
+            seen[path.stem] = {node.module.split(".")[1] for node in imports}
+        while seen:
+            free = [name for name, others in seen.items() if not others & set(seen)]
+            self.assertTrue(free, seen)
+            seen = {name: others for name, others in seen.items() if name not in free}

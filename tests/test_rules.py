@@ -7,31 +7,8 @@ import unittest
 from samelayout.probes import linear
 from samelayout.rules import are_probes, farther_rule, is_ordered, is_rule, order_at, ring_at, rule_of_orders
 from tests.values import (
-    orders_for, other_kinds, pair_count, replaced, shuffled, some_table, table_of_bits)
-
-SIZES = range(1, 17)
-
-
-def some_probes(keys, slots, seed=0):
-    return tuple(shuffled(slots, f"{seed} {key}") for key in range(keys))
-
-
-def some_rule(keys, slots, seed=0):
-    return tuple(some_table(keys, f"{seed} {slot}") for slot in range(slots))
-
-
-def rings_of(table):
-    """All rings of keys of a table, each from each of its keys on."""
-    triples = itertools.permutations(range(len(table)), 3)
-    return [(a, b, c) for a, b, c in triples if b in table[a] and c in table[b] and a in table[c]]
-
-
-def ringed_table(order, at):
-    """The table of an order, but the key at index at + 2 beats the one at index at."""
-    table = [list(row) for row in rule_of_orders((order,))[0]]
-    table[order[at]].remove(order[at + 2])
-    table[order[at + 2]].append(order[at])
-    return tuple(tuple(sorted(row)) for row in table)
+    SIZES, orders_for, other_kinds, pair_count, replaced, ringed_table, rings_of, shuffled, some_probes, some_rule,
+    some_table, table_of_bits)
 
 
 class AnyValueTest(unittest.TestCase):
