@@ -16,10 +16,15 @@ def next_key(probes, rule, layout, slot):
 
 def key_behind(probes, rule, layout, slot):
     """The next key of a taken slot, by a rule that is known to be ordered."""
-    table = rule[slot]
-    asking = [key for key in table[layout[slot]] if key in layout and would_rather(probes, layout, key, slot)]
+    weaker = [key for key in rule[slot][layout[slot]] if key in layout]
+    return strongest_asking(probes, rule, layout, slot, weaker)
+
+
+def strongest_asking(probes, rule, layout, slot, keys):
+    """The strongest at a slot of those of some keys in the layout that would rather have this slot, or -1."""
+    asking = [key for key in keys if would_rather(probes, layout, key, slot)]
     # At a slot without a ring of keys the stronger key beats more keys.
-    return max(asking, key=lambda key: len(table[key]), default=NO_KEY)
+    return max(asking, key=lambda key: len(rule[slot][key]), default=NO_KEY)
 
 
 def would_rather(probes, layout, key, slot):

@@ -66,6 +66,28 @@ RINGS = """
 [1, ((0, 1),), (1, 2, -1), (((0, 2, 1), (1, 1, 2)),)]
 """
 
+REMOVING = """
+>>> from samelayout.rules import rule_of_orders
+>>> from samelayout.removing import fill, look_up, remove
+>>> probes = ((0, 1, 2), (0, 1, 2), (1, 0, 2))
+>>> rule = rule_of_orders(((0, 2, 1), (1, 2, 0), (0, 1, 2)))
+>>> [fill(probes, rule, (0, 1, 2), 0), remove(probes, rule, (0, 1, 2), 0), look_up(probes, rule, (0, 1, 2), 2), look_up(probes, rule, (1, 2, -1), 0)]
+[((2, 1, -1), ((2, 2, 0),)), (1, 2, -1), (2, 3), (-1, 1)]
+"""
+
+LINEAR = """
+>>> from samelayout.linear import distance_sum, flows, greatest_distance, square_sum, taken
+>>> [flows((2, 1, 0, 0, 2)), taken((2, 0, 0, 1)), distance_sum((2, 1, 0, 0, 2)), greatest_distance((2, 1, 0, 0, 2)), square_sum((2, 1, 0, 0, 2))]
+[(2, 2, 1, 0, 1), (0, 1, 3), 6, 2, 10]
+"""
+
+RUNS = """
+>>> from samelayout.runs import run_distance_sum, run_flow, run_greatest, run_taken
+>>> runs = ((1000, 2), (2000, 0))
+>>> [run_flow(runs, 999), run_taken(runs, 1999), run_taken(runs, 2000), run_greatest(runs), run_distance_sum(runs)]
+[1000, True, False, 1000, 1000000]
+"""
+
 
 class DocumentTest(unittest.TestCase):
 
@@ -99,6 +121,15 @@ class DocumentTest(unittest.TestCase):
 
     def test_rings(self):
         self.check(RINGS)
+
+    def test_removing_and_looking_up(self):
+        self.check(REMOVING)
+
+    def test_linear_probing(self):
+        self.check(LINEAR)
+
+    def test_long_tables(self):
+        self.check(RUNS)
 
     def test_readme(self):
         readme = pathlib.Path(__file__).resolve().parent.parent / "README.md"

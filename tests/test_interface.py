@@ -22,6 +22,13 @@ FUNCTIONS = {
     "rings": {
         "next_key": "probes rule layout slot", "rings": "probes rule layout", "exchange": "probes rule layout ring",
         "rings_to_best": "probes rule layout"},
+    "removing": {
+        "fill": "probes rule layout key", "remove": "probes rule layout key", "look_up": "probes rule layout key"},
+    "linear": {
+        "flows": "counts", "taken": "counts", "distance_sum": "counts", "greatest_distance": "counts",
+        "square_sum": "counts"},
+    "runs": {
+        "run_flow": "runs slot", "run_taken": "runs slot", "run_distance_sum": "runs", "run_greatest": "runs"},
 }
 
 

@@ -9,8 +9,9 @@ from samelayout.rings import exchange, next_key, rings, rings_to_best
 from samelayout.rules import order_at, rule_of_orders
 from samelayout.stable import best, stable_layouts, worst
 from tests.values import (
-    SIZES, SMALL, blocks, error_of, keys_of, ordered_rule, ordered_settings, other_kinds, parts_replaced, replaced,
-    rich_settings, ringed_rule, sets_of, shuffled, some_probes, some_rule, stable_by_words)
+    SIZES, blocks, error_of, keys_of, large_settings, layouts_on_the_way, ordered_rule, ordered_settings, other_kinds,
+    parts_replaced, replaced, rich_settings, ringed_rule, shuffled, small_layouts, some_probes, some_rule,
+    stable_by_words)
 
 PROBES = ((0, 1, 2), (0, 1, 2), (1, 0, 2))
 RULE = rule_of_orders(((0, 2, 1), (1, 2, 0), (0, 1, 2)))
@@ -46,33 +47,6 @@ def rings_by_words(probes, rule, layout):
 
 def exchange_by_words(probes, rule, layout, ring):
     return tuple(next_by_words(probes, rule, layout, slot) if slot in ring else key for slot, key in enumerate(layout))
-
-
-def small_layouts():
-    """All stable layouts of all sets of keys of small settings."""
-    for probes, rule in [*ordered_settings(SMALL, range(3)), *list(rich_settings())[:-1]]:
-        for keys in sets_of(range(len(probes)), min(len(probes), len(rule))):
-            for layout in stable_layouts(probes, rule, keys):
-                yield probes, rule, layout
-
-
-def large_settings():
-    """Settings of up to sixteen keys and slots, with keys of which the worst layout has rings."""
-    for sizes, more in (((16,), 0), ((2,) * 8, 0), ((3, 5, 8), 0), ((4, 4), 8), ((2, 3, 4, 5), 2), ((15, 1), 0)):
-        probes, rule = blocks(sizes, more)
-        yield probes, rule, tuple(range(len(probes)))
-    for keys, slots in ((16, 16), (16, 12), (12, 16), (14, 14)):
-        for seed in range(12):
-            yield some_probes(keys, slots, seed), ordered_rule(keys, slots, seed), tuple(range(min(keys, slots)))
-
-
-def layouts_on_the_way(probes, rule, keys):
-    """From the worst layout to the best one, the last ring first."""
-    layout = worst(probes, rule, keys)
-    yield layout
-    while rings(probes, rule, layout):
-        layout = exchange(probes, rule, layout, rings(probes, rule, layout)[-1])
-        yield layout
 
 
 class RingsTest(unittest.TestCase):

@@ -5,7 +5,9 @@ import random
 
 from samelayout.errors import LayoutError
 from samelayout.probes import linear
+from samelayout.rings import exchange, rings
 from samelayout.rules import farther_rule, order_at, rule_of_orders
+from samelayout.stable import stable_layouts, worst
 
 SIZES = range(1, 17)
 SMALL = ((1, 1), (1, 3), (3, 1), (2, 2), (3, 2), (2, 4), (3, 3), (4, 3), (4, 4), (3, 5), (5, 4))
@@ -187,6 +189,33 @@ def placements(keys, slots):
     for places in itertools.permutations(range(slots), len(keys)):
         where = dict(zip(places, keys))
         yield tuple(where.get(slot, -1) for slot in range(slots))
+
+
+def small_layouts():
+    """All stable layouts of all sets of keys of small settings."""
+    for probes, rule in [*ordered_settings(SMALL, range(3)), *list(rich_settings())[:-1]]:
+        for keys in sets_of(range(len(probes)), min(len(probes), len(rule))):
+            for layout in stable_layouts(probes, rule, keys):
+                yield probes, rule, layout
+
+
+def large_settings():
+    """Settings of up to sixteen keys and slots, with keys of which the worst layout has rings."""
+    for sizes, more in (((16,), 0), ((2,) * 8, 0), ((3, 5, 8), 0), ((4, 4), 8), ((2, 3, 4, 5), 2), ((15, 1), 0)):
+        probes, rule = blocks(sizes, more)
+        yield probes, rule, tuple(range(len(probes)))
+    for keys, slots in ((16, 16), (16, 12), (12, 16), (14, 14)):
+        for seed in range(12):
+            yield some_probes(keys, slots, seed), ordered_rule(keys, slots, seed), tuple(range(min(keys, slots)))
+
+
+def layouts_on_the_way(probes, rule, keys):
+    """From the worst layout to the best one, the last ring first."""
+    layout = worst(probes, rule, keys)
+    yield layout
+    while rings(probes, rule, layout):
+        layout = exchange(probes, rule, layout, rings(probes, rule, layout)[-1])
+        yield layout
 
 
 def insert_by_words(probes, rule, layout, key):
