@@ -88,6 +88,30 @@ RUNS = """
 [1000, True, False, 1000, 1000000]
 """
 
+TABLE = """
+>>> from samelayout.table import Table
+>>> table = Table(4)
+>>> table.put('a', 'x')
+>>> table.put('e', 'y')
+>>> table.put('b', 'z')
+>>> [table.layout(), table.look_up('i'), table.take_out('a'), table.layout()]
+[('', 'a', 'b', 'e'), (-1, 4), 'x', ('', 'e', 'b', '')]
+"""
+
+WRITTEN = r"""
+>>> from samelayout.showing import show_history, show_layout, show_setting
+>>> from samelayout.rules import rule_of_orders
+>>> [show_setting(((0, 1), (1, 0)), rule_of_orders(((1, 0), (0, 1)))), show_layout((2, -1)), show_history(())]
+['keys 2 slots 2\nprobe 0 1\nprobe 1 0\nbeats - 0\nbeats 1 -', '2 -', '-']
+"""
+
+SESSION = r"""
+>>> from samelayout.session import Session
+>>> session = Session('keys 2 slots 2\nprobe 0 1\nprobe 0 1\nbeats - 0\nbeats 1 -')
+>>> [session.say('insert 0'), session.say('insert 1'), session.say('show'), session.say('find 0'), session.say('judge')]
+['0:0', '1:0 0:1', '1 0', '1 reads 2', 'orders']
+"""
+
 
 class DocumentTest(unittest.TestCase):
 
@@ -130,6 +154,15 @@ class DocumentTest(unittest.TestCase):
 
     def test_long_tables(self):
         self.check(RUNS)
+
+    def test_table(self):
+        self.check(TABLE)
+
+    def test_written_forms(self):
+        self.check(WRITTEN)
+
+    def test_session(self):
+        self.check(SESSION)
 
     def test_readme(self):
         readme = pathlib.Path(__file__).resolve().parent.parent / "README.md"

@@ -1,4 +1,4 @@
-"""The names and the arguments that the document lists, as far as they have landed."""
+"""The names and the arguments that the document lists."""
 
 import importlib
 import inspect
@@ -29,10 +29,26 @@ FUNCTIONS = {
         "square_sum": "counts"},
     "runs": {
         "run_flow": "runs slot", "run_taken": "runs slot", "run_distance_sum": "runs", "run_greatest": "runs"},
+    "showing": {"show_setting": "probes rule", "show_layout": "layout", "show_history": "history"},
+    "reading": {"read_setting": "source", "read_layout": "source", "read_history": "source"},
+}
+METHODS = {
+    ("table", "Table"): {
+        "put": "name value", "value_of": "name", "take_out": "name", "look_up": "name", "names": "", "layout": "",
+        "__len__": "", "slots": "", "distances": "", "grow": "count", "add_all": "other", "clone": "",
+        "__eq__": "other"},
+    ("session", "Session"): {"__init__": "source", "say": "line"},
 }
 
 
 class InterfaceTest(unittest.TestCase):
+
+    def check_arguments(self, function, names):
+        parameters = inspect.signature(function).parameters.values()
+        self.assertEqual([parameter.name for parameter in parameters], names)
+        for parameter in parameters:
+            self.assertEqual(parameter.kind, inspect.Parameter.POSITIONAL_OR_KEYWORD)
+            self.assertIs(parameter.default, inspect.Parameter.empty)
 
     def test_functions_and_their_arguments(self):
         for module, functions in FUNCTIONS.items():
@@ -41,8 +57,22 @@ class InterfaceTest(unittest.TestCase):
                 with self.subTest(module=module, name=name):
                     function = getattr(found, name)
                     self.assertEqual(function.__module__, "samelayout." + module)
-                    parameters = inspect.signature(function).parameters.values()
-                    self.assertEqual([parameter.name for parameter in parameters], arguments.split())
-                    for parameter in parameters:
-                        self.assertEqual(parameter.kind, inspect.Parameter.POSITIONAL_OR_KEYWORD)
-                        self.assertIs(parameter.default, inspect.Parameter.empty)
+                    self.check_arguments(function, arguments.split())
+
+    def test_methods_stand_in_the_class_itself(self):
+        for (module, name), methods in METHODS.items():
+            found = getattr(importlib.import_module("samelayout." + module), name)
+            self.assertEqual((found.__module__, found.__bases__), ("samelayout." + module, (object,)))
+            for method, arguments in methods.items():
+                with self.subTest(name=name, method=method):
+                    self.check_arguments(vars(found)[method], ["self", *arguments.split()])
+
+    def test_how_a_table_is_made(self):
+        found = vars(importlib.import_module("samelayout.table").Table)["__init__"]
+        self.assertEqual(str(inspect.signature(found)), "(self, count, *, way='linear', rule='names')")
+
+    def test_all_modules_of_the_document(self):
+        listed = {*FUNCTIONS, "errors", *(module for module, name in METHODS)}
+        self.assertEqual(listed, {
+            "errors", "probes", "rules", "inserting", "judging", "stable", "rings", "removing", "linear", "runs",
+            "table", "showing", "reading", "session"})

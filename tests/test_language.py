@@ -90,6 +90,23 @@ class LanguageTest(unittest.TestCase):
                 if isinstance(node, ast.Name) and isinstance(node.ctx, ast.Store):
                     self.assertNotIn(node.id, taken, path)
 
+    def test_no_name_is_a_method_and_an_attribute(self):
+        methods = {row.name for path, node in nodes() if isinstance(node, ast.ClassDef)
+                   for row in node.body if isinstance(row, ast.FunctionDef)}
+        assigned = {node.attr for path, node in nodes()
+                    if isinstance(node, ast.Attribute) and isinstance(node.ctx, ast.Store)}
+        self.assertEqual(methods & assigned, set())
+        # Lists and strings have these, so that no attribute may be called so.
+        self.assertEqual(assigned & {*dir(list), *dir(dict), "encode", "format"} - {"count", "index", "copy"}, set())
+        self.assertEqual(methods & {*dir(str), *dir(list), *dir(dict), *dir(int)} - {"__init__", "__len__", "__eq__"},
+                         set())
+
+    def test_what_a_class_with_equality_bars(self):
+        for path, node in nodes():
+            self.assertNotIsInstance(node, ast.GeneratorExp, path)
+            if isinstance(node, ast.Attribute):
+                self.assertNotEqual(node.attr, "sort", path)
+
     def test_imports_are_used_and_go_one_way(self):
         seen = {}
         for path, source in sources().items():
